@@ -1,0 +1,1 @@
+"""Marks of what was run, led over edited texts."""

@@ -1,0 +1,163 @@
+"""[1], [2], [3]: what holds for all modules; and the form of the package."""
+
+import ast
+import doctest
+import inspect
+import pathlib
+import unittest
+
+import ledmarks
+from ledmarks import editions, errors, rows, tools, words
+from things import ANY, NAMES, NO_NAMES, near, plain
+
+ROOT = pathlib.Path(__file__).resolve().parent.parent
+PACKAGE = ROOT / "ledmarks"
+FILES = sorted(PACKAGE.rglob("*.py"))
+
+# module -> class or function -> parameter names (behind self)
+INTERFACE = {
+    rows: {"Run": ["old", "then"], "Lead": ["tests", "old", "then"], "Join": ["here", "came", "then"],
+           "Row.read": ["text"]},
+    tools: {"Tool": ["marks", "told", "parts", "clears", "rows"], "Tool.ran": ["mark"], "Tool.led": ["mark", "same"],
+            "Tool.joined": ["here", "came"], "Tool.keeps": ["same"], "Tool.without": ["at"],
+            "Tool.heeding": ["parts"], "Tool.read": ["text"]},
+    editions: {"Edition": ["rows"], "Edition.frame": ["at"], "Edition.read": ["text"], "same": ["one", "other"]},
+}
+OWN = {
+    rows.Row: ["read", "__eq__", "__str__"],
+    tools.Tool: ["ran", "led", "joined", "keeps", "without", "heeding", "read", "__len__", "__getitem__", "__eq__",
+                 "__str__"],
+    editions.Edition: ["frame", "read", "__len__", "__getitem__", "__eq__", "__str__"],
+}
+
+
+class TestWords(unittest.TestCase):
+    def test_names(self):
+        for name in NAMES:
+            self.assertIs(words.is_name(name), True)
+        for value in [*NO_NAMES, None, 1, ["a"], ("a",)]:
+            self.assertIs(words.is_name(value), False)
+        good = [value for value in ANY if words.is_name(value)]
+        self.assertEqual(good, ["a", "abcd"])
+
+    def test_each_letter(self):
+        for code in range(32, 127):
+            self.assertIs(words.is_name(chr(code)), chr(code) in "abcdefghijklmnopqrstuvwxyz")
+            self.assertIs(words.is_name("a" + chr(code)), chr(code) in "abcdefghijklmnopqrstuvwxyz")
+
+    def test_numbers(self):
+        for value in ANY:
+            good = value.__class__ is int and value >= 0
+            self.assertIs(words.is_number(value), good)
+
+    def test_sequences(self):
+        for value in ANY:
+            self.assertIs(words.is_sequence(value), value.__class__ in (list, tuple))
+
+    def test_decimals(self):
+        for text in [str(number) for number in range(100)]:
+            self.assertIs(words.is_decimal(text), True)
+        for text in ["", "00", "01", "09", "100", "a", "1a", "a1", " 1", "1 ", "-1", "+1", "1.", "\u00b2", "\u0661"]:
+            self.assertIs(words.is_decimal(text), False)
+
+
+class TestCalls(unittest.TestCase):
+    def test_parameter_names(self):
+        for module, named in INTERFACE.items():
+            for path, wanted in named.items():
+                thing = module
+                for word in path.split("."):
+                    thing = getattr(thing, word)
+                parameters = [word for word in inspect.signature(thing).parameters if word != "self"]
+                self.assertEqual(parameters, wanted, path)
+
+    def test_methods_stand_in_the_class_itself(self):
+        for owner, names in OWN.items():
+            for name in names:
+                self.assertIn(name, vars(owner), owner)
+        for owner in OWN:
+            self.assertIsInstance(vars(owner)["read"], classmethod)
+
+    def test_things_are_defined_in_their_module(self):
+        for module, named in INTERFACE.items():
+            for path in named:
+                self.assertEqual(getattr(module, path.split(".")[0]).__module__, module.__name__)
+
+    def test_equal_calls_equal_results(self):
+        one = plain()
+        first = [one.ran("none"), one.led("run", (True, True, True)), one.heeding([]), one.without(0), str(one)]
+        near().heeding(["own"])
+        with self.assertRaises(errors.NoMark):
+            one.ran("x")
+        with self.assertRaises(errors.NoRow):
+            one.without(9)
+        again = [one.ran("none"), one.led("run", (True, True, True)), one.heeding([]), one.without(0), str(one)]
+        self.assertEqual(first, again)
+
+    def test_texts_as_long_as_the_limit(self):
+        lines = ["marks aaaa bbbb cccc dddd eeee", "told bbbb cccc dddd eeee", "parts above below own", "send clear"]
+        lines += ["lead not above and not below and not own bbbb to cccc"] * 16
+        text = "\n".join(lines)
+        self.assertEqual(str(tools.Tool.read(text)), text)
+        lines += ["join aaaa bbbb to cccc"] * 20
+        self.assertEqual(len(tools.Tool.read("\n".join(lines))), 36)
+
+
+class TestForm(unittest.TestCase):
+    def test_the_package_is_empty_but_for_a_docstring(self):
+        body = ast.parse((PACKAGE / "__init__.py").read_text()).body
+        self.assertEqual(len(body), 1)
+        self.assertIsInstance(body[0].value.value, str)
+        self.assertEqual(ledmarks.__doc__, body[0].value.value)
+
+    def test_only_python_files(self):
+        for path in PACKAGE.rglob("*"):
+            if "__pycache__" not in path.parts and path.is_file():
+                self.assertEqual(path.suffix, ".py")
+
+    def test_characters_and_sizes(self):
+        for path in FILES:
+            text = path.read_bytes()
+            self.assertLessEqual(set(text), {10, *range(32, 127)}, path)
+            lines = text.split(b"\n")
+            self.assertLess(len(lines), 400, path)
+            self.assertLessEqual(max(len(line) for line in lines), 120, path)
+
+    def test_functions_are_small(self):
+        for path in FILES:
+            for node in ast.walk(ast.parse(path.read_text())):
+                if isinstance(node, ast.FunctionDef):
+                    self.assertLessEqual(node.end_lineno - node.lineno + 1, 40, (path, node.name))
+
+    def test_imports_come_from_the_file_that_defines_the_name(self):
+        for path in FILES:
+            for node in ast.walk(ast.parse(path.read_text())):
+                self.assertNotIsInstance(node, ast.Import, path)
+                if isinstance(node, ast.ImportFrom):
+                    self.assertEqual((node.level, node.module.split(".")[0]), (0, "ledmarks"))
+                    source = ROOT / (node.module.replace(".", "/") + ".py")
+                    self.assertLessEqual({name.name for name in node.names}, defined(source), path)
+
+    def test_any_and_all_take_lists(self):
+        for path in FILES:
+            for node in ast.walk(ast.parse(path.read_text())):
+                self.assertNotIsInstance(node, ast.GeneratorExp, path)
+
+    def test_the_readme(self):
+        told = doctest.testfile(str(ROOT / "README.md"), module_relative=False)
+        self.assertGreater(told.attempted, 0)
+        self.assertEqual(told.failed, 0)
+
+
+def defined(path):
+    names = set()
+    for node in ast.parse(path.read_text()).body:
+        if isinstance(node, (ast.FunctionDef, ast.ClassDef)):
+            names.add(node.name)
+        if isinstance(node, ast.Assign):
+            names.add(node.targets[0].id)
+    return names
+
+
+if __name__ == "__main__":
+    unittest.main()
