@@ -7,8 +7,8 @@ import pathlib
 import unittest
 
 import ledmarks
-from ledmarks import editions, errors, rows, tools, words
-from things import ANY, NAMES, NO_NAMES, near, plain
+from ledmarks import deciding, editions, errors, papers, rows, runs, stories, tools, words
+from things import ANY, NAMES, NO_NAMES, near, plain, story
 
 ROOT = pathlib.Path(__file__).resolve().parent.parent
 PACKAGE = ROOT / "ledmarks"
@@ -22,12 +22,19 @@ INTERFACE = {
             "Tool.joined": ["here", "came"], "Tool.keeps": ["same"], "Tool.without": ["at"],
             "Tool.heeding": ["parts"], "Tool.read": ["text"]},
     editions: {"Edition": ["rows"], "Edition.frame": ["at"], "Edition.read": ["text"], "same": ["one", "other"]},
+    stories: {"Story": ["first", "machines", "events"], "Story.upto": ["many"], "Story.more": ["events"],
+              "Story.elder": ["edition", "row", "other"], "Story.read": ["text"]},
+    runs: {"play": ["tool", "story"], "lacking": ["tool", "story", "base"]},
+    deciding: {"happens": ["tool", "fault"], "faults": ["tool"], "fewest": ["tool", "fault"],
+               "story": ["tool", "fault"], "lists": ["tool"]},
+    papers: {"paper": ["tool", "fault"], "paper_holds": ["tool", "fault", "value"]},
 }
 OWN = {
     rows.Row: ["read", "__eq__", "__str__"],
     tools.Tool: ["ran", "led", "joined", "keeps", "without", "heeding", "read", "__len__", "__getitem__", "__eq__",
                  "__str__"],
     editions.Edition: ["frame", "read", "__len__", "__getitem__", "__eq__", "__str__"],
+    stories.Story: ["editions", "upto", "more", "elder", "read", "__len__", "__getitem__", "__eq__", "__str__"],
 }
 
 
@@ -82,6 +89,27 @@ class TestCalls(unittest.TestCase):
         for module, named in INTERFACE.items():
             for path in named:
                 self.assertEqual(getattr(module, path.split(".")[0]).__module__, module.__name__)
+
+    def test_default_arguments(self):
+        self.assertEqual(inspect.signature(stories.Story).parameters["events"].default, ())
+        self.assertEqual(stories.Story(editions.Edition.read("a"), 1), story("a", 1))
+
+    def test_the_class_of_what_is_played(self):
+        played = runs.play(plain(), story("a", 1, "run 0 0", "send 0", "hear 0"))
+        self.assertIs(played.__class__, runs.Played)
+        self.assertEqual(runs.Played.__module__, runs.__name__)
+        self.assertEqual(sorted(vars(played)), ["books", "known", "marks", "met", "now", "sent", "told"])
+
+    def test_what_is_returned_may_be_passed_on(self):
+        one = story("a b", 1, "run 0 1", "send 0")
+        played = runs.play(plain(), one)
+        self.assertEqual(stories.Story(one.first, one.machines, one.events), one)
+        self.assertEqual(one.more(one.events).upto(2), one)
+        self.assertEqual(stories.Story(one.editions[-1], one.machines, played.now), story("a b", 1))
+        told = deciding.story(near(), deciding.faults(near())[0])
+        self.assertEqual(runs.play(near(), told.more(["fetch 0"])).told, (1,))
+        self.assertIs(papers.paper_holds(near(), "order", papers.paper(near(), "order")), True)
+        self.assertEqual(tools.Tool(plain().marks, plain().told, plain().parts, True, plain().rows), plain())
 
     def test_equal_calls_equal_results(self):
         one = plain()

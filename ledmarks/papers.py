@@ -1,0 +1,50 @@
+"""Papers: pairs of lists that show to anybody that a fault does not happen."""
+
+from ledmarks.deciding import happens, lists
+from ledmarks.steps import arrivals, beginning, check_fault, head_steps, machine_steps, meetings
+
+
+def paper(tool, fault):
+    """Some right paper for the fault, or None if it happens."""
+    return None if happens(tool, fault) else lists(tool)
+
+
+def paper_holds(tool, fault, value):
+    """Whether any value is a right paper for the fault."""
+    check_fault(fault)
+    if not isinstance(value, tuple) or len(value) != 2:
+        return False
+    if not all([_is_list(tool, part) for part in value]):
+        return False
+    machines, head = value
+    if not _is_closed(tool, machines, [machine_steps(tool, pair) for pair in machines]):
+        return False
+    came = _coming(tool, machines)
+    if not _is_closed(tool, head, [head_steps(tool, pair, came) for pair in head]):
+        return False
+    return all([meetings(tool, fault, pair, came) == [] for pair in head])
+
+
+def _is_list(tool, value):
+    return isinstance(value, tuple) and all([_is_pair(tool, pair) for pair in value])
+
+
+def _is_pair(tool, value):
+    if not isinstance(value, tuple) or len(value) != 2:
+        return False
+    mark, known = value
+    return mark in tool.marks and isinstance(known, bool)
+
+
+def _is_closed(tool, pairs, steps):
+    """Whether the beginning is in the list, and each of these steps leads to a pair in it."""
+    return beginning(tool) in pairs and all([after in pairs for some in steps for _, after in some])
+
+
+def _coming(tool, machines):
+    """The pairs that can come to the head by these of the machines, each one once."""
+    came = {}
+    for pair in machines:
+        for _, other in arrivals(tool, pair):
+            came[other] = True
+    return list(came)
