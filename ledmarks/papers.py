@@ -1,7 +1,8 @@
 """Papers: pairs of lists that show to anybody that a fault does not happen."""
 
 from ledmarks.deciding import happens, lists
-from ledmarks.steps import arrivals, beginning, check_fault, head_steps, machine_steps, meetings
+from ledmarks.pairs import OneTool
+from ledmarks.steps import arrivals, check_fault, head_steps, machine_steps, meetings
 
 
 def paper(tool, fault):
@@ -17,10 +18,11 @@ def paper_holds(tool, fault, value):
     if not all([_is_list(tool, part) for part in value]):
         return False
     machines, head = value
-    if not _is_closed(tool, machines, [machine_steps(tool, pair) for pair in machines]):
+    rule = OneTool(tool)
+    if not _is_closed(rule, machines, [machine_steps(rule, pair) for pair in machines]):
         return False
-    came = _coming(tool, machines)
-    if not _is_closed(tool, head, [head_steps(tool, pair, came) for pair in head]):
+    came = _coming(rule, machines)
+    if not _is_closed(rule, head, [head_steps(rule, pair, came) for pair in head]):
         return False
     return all([meetings(tool, fault, pair, came) == [] for pair in head])
 
@@ -36,15 +38,15 @@ def _is_pair(tool, value):
     return mark in tool.marks and isinstance(known, bool)
 
 
-def _is_closed(tool, pairs, steps):
+def _is_closed(rule, pairs, steps):
     """Whether the beginning is in the list, and each of these steps leads to a pair in it."""
-    return beginning(tool) in pairs and all([after in pairs for some in steps for _, after in some])
+    return rule.start in pairs and all([after in pairs for some in steps for _, after in some])
 
 
-def _coming(tool, machines):
+def _coming(rule, machines):
     """The pairs that can come to the head by these of the machines, each one once."""
     came = {}
     for pair in machines:
-        for _, other in arrivals(tool, pair):
+        for _, other in arrivals(rule, pair):
             came[other] = True
     return list(came)

@@ -42,7 +42,7 @@ class Run(Row):
             raise InvalidRow("then")
         self.old = old
         self.then = then
-        Row.__init__(self, ("run", old, "to", then), (old, then))
+        super().__init__(("run", old, "to", then), (old, then))
 
     def fits(self, mark):
         return self.old in ("any", mark)
@@ -61,7 +61,7 @@ class Lead(Row):
         self.tests = tuple(tests)
         self.old = old
         self.then = then
-        Row.__init__(self, ("lead", " and ".join(tests) or "always", old, "to", then), (old, then))
+        super().__init__(("lead", " and ".join(tests) or "always", old, "to", then), (old, then))
 
     def fits(self, mark):
         return self.old in ("any", mark)
@@ -84,7 +84,7 @@ class Join(Row):
         self.here = here
         self.came = came
         self.then = then
-        Row.__init__(self, ("join", here, came, "to", then), (here, came, then))
+        super().__init__(("join", here, came, "to", then), (here, came, then))
 
     def meets(self, here, came):
         return self.here in ("any", here) and self.came in ("any", came)

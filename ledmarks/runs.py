@@ -7,10 +7,10 @@ from ledmarks.steps import order_matters, second_matters
 class Played:
     """A story that happened to a tool: the head's marks, all books, the faults that were met."""
 
-    def __init__(self, course):
+    def __init__(self, tool, course):
         self.marks = course.head[1]
         self.known = course.head[2]
-        self.told = tuple([row for row, mark in enumerate(self.marks) if mark in course.tool.told])
+        self.told = tuple([row for row, mark in enumerate(self.marks) if mark in tool.told])
         self.books = tuple(course.held)
         self.sent = tuple(course.sent)
         self.now = course.now
@@ -21,8 +21,8 @@ class Course:
     """A story as far as it has happened to a tool."""
 
     def __init__(self, tool, story):
-        self.tool = tool
-        self.story = story
+        self._tool = tool
+        self._story = story
         self.head = blank_book(tool, story, 0)
         self.held = [self.head] * story.machines
         self.sent = []
@@ -40,7 +40,7 @@ class Course:
         if word == "edit":
             self._edit()
         elif word == "fetch":
-            self.held[thing] = led_book(self.tool, self.story, self.held[thing], self.head[0])
+            self.held[thing] = led_book(self._tool, self._story, self.held[thing], self.head[0])
         elif word == "run":
             self._run(thing, rows)
         elif word == "send":
@@ -51,30 +51,30 @@ class Course:
 
     def _edit(self):
         newest = self.head[0] + 1
-        self.head = led_book(self.tool, self.story, self.head, newest)
-        self.coming = [arriving(self.tool, self.story, book, newest) for book in self.sent]
+        self.head = led_book(self._tool, self._story, self.head, newest)
+        self.coming = [arriving(self._tool, self._story, book, newest) for book in self.sent]
 
     def _run(self, machine, rows):
         edition, marks, known = self.held[machine]
         pairs = list(zip(marks, known))
         for row in rows:
-            pairs[row] = (self.tool.ran(marks[row]), True)
+            pairs[row] = (self._tool.ran(marks[row]), True)
             self.runs[(edition, row)] = True
         self.held[machine] = book_of(edition, pairs)
 
     def _send(self, machine):
         book = self.held[machine]
         self.sent.append(book)
-        self.coming.append(arriving(self.tool, self.story, book, self.head[0]))
-        if self.tool.clears:
-            self.held[machine] = blank_book(self.tool, self.story, book[0])
+        self.coming.append(arriving(self._tool, self._story, book, self.head[0]))
+        if self._tool.clears:
+            self.held[machine] = blank_book(self._tool, self._story, book[0])
 
     def _hear(self, message):
         edition, marks, known = self.head
         pairs = list(zip(marks, known))
         for row, came in enumerate(self.coming[message]):
             if came is not None:
-                pairs[row] = (self.tool.joined(marks[row], came[0]), known[row] or came[1])
+                pairs[row] = (self._tool.joined(marks[row], came[0]), known[row] or came[1])
         self.head = book_of(edition, pairs)
 
     def _judge(self, ahead):
@@ -86,29 +86,29 @@ class Course:
     def _faults(self, row, ahead):
         """The faults that are met at a row of the head; `ahead` is the head's book just ahead of the event."""
         _, marks, known = self.head
-        told = marks[row] in self.tool.told
+        told = marks[row] in self._tool.told
         came = self._came(row)
         judged = {
             "fallen": not told and self._was_told(row, ahead),
             "false": told and not self._was_run(row),
             "missed": known[row] and not told,
-            "order": any([order_matters(self.tool, marks[row], one, other) for one in came for other in came]),
-            "twice": any([second_matters(self.tool, marks[row], mark) for mark in came]),
+            "order": any([order_matters(self._tool, marks[row], one, other) for one in came for other in came]),
+            "twice": any([second_matters(self._tool, marks[row], mark) for mark in came]),
         }
         return [fault for fault in judged if judged[fault]]
 
     def _was_told(self, row, ahead):
         edition, marks, _ = ahead
-        if not keeps_frame(self.tool, self.story, self.head[0], row, edition):
+        if not keeps_frame(self._tool, self._story, self.head[0], row, edition):
             return False
-        return marks[self.story.elder(self.head[0], row, edition)] in self.tool.told
+        return marks[self._story.elder(self.head[0], row, edition)] in self._tool.told
 
     def _was_run(self, row):
         """Whether there was a run of the row with a frame that keeps with the one that it has now."""
         newest = self.head[0]
         for edition in range(newest + 1):
-            run = (edition, self.story.elder(newest, row, edition))
-            if run in self.runs and keeps_frame(self.tool, self.story, newest, row, edition):
+            run = (edition, self._story.elder(newest, row, edition))
+            if run in self.runs and keeps_frame(self._tool, self._story, newest, row, edition):
                 return True
         return False
 
@@ -122,7 +122,7 @@ def play(tool, story):
     course = Course(tool, story)
     for act in story.acts:
         course.go(act)
-    return Played(course)
+    return Played(tool, course)
 
 
 def lacking(tool, story, base):

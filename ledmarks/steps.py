@@ -1,6 +1,10 @@
-"""The steps of one row's mark: what a machine and the head can make of it, by whatever texts and runs."""
+"""The steps of one row: what a machine and the head can make of its pair, by whatever texts and runs.
+
+A `rule` is a `OneTool` or a `TwoTools`.
+"""
 
 from ledmarks.errors import InvalidFault
+from ledmarks.pairs import OneTool
 
 FAULTS = ("fallen", "false", "missed", "order", "twice")
 
@@ -16,27 +20,21 @@ def check_fault(fault):
         raise InvalidFault()
 
 
-def beginning(tool):
-    """The pair of mark and known with which each row begins."""
-    return (tool.blank, False)
-
-
-def machine_steps(tool, pair):
+def machine_steps(rule, pair):
     """What becomes of a pair in a machine's book: a list of steps and pairs."""
-    # That a machine clears is no step: the row begins anew, and what comes of it then is told from the beginning on.
-    ran = (("run", None), (tool.ran(pair[0]), True))
-    return [ran, *[(("fetch", same), _led(tool, pair, same)) for same in PATTERNS]]
+    steps = [(("run", None), rule.ran(pair)), (("send", None), rule.left(pair))]
+    return steps + [(("fetch", same), rule.led(pair, same)) for same in PATTERNS]
 
 
-def arrivals(tool, pair):
+def arrivals(rule, pair):
     """What comes to the head of a pair that is sent: a list of patterns, or None where it is not led, and pairs."""
-    return [(None, pair), *[(same, _led(tool, pair, same)) for same in PATTERNS]]
+    return [(None, pair), *[(same, rule.led(pair, same)) for same in PATTERNS]]
 
 
-def head_steps(tool, pair, came):
+def head_steps(rule, pair, came):
     """What becomes of a pair in the head's book: a list of steps and pairs; `came` are the pairs that can come."""
-    edits = [(("edit", same), _led(tool, pair, same)) for same in PATTERNS]
-    return edits + [(("hear", other), _joined(tool, pair, other)) for other in came]
+    edits = [(("edit", same), rule.led(pair, same)) for same in PATTERNS]
+    return edits + [(("hear", other), rule.joined(pair, other)) for other in came]
 
 
 def meetings(tool, fault, pair, came):
@@ -54,7 +52,7 @@ def meetings(tool, fault, pair, came):
         return [((), (one,)) for one in came if second_matters(tool, mark, one[0])]
     if not told:
         return []
-    return [((step,), ()) for step, after in head_steps(tool, pair, came) if _falls(tool, step, after)]
+    return [((step,), ()) for step, after in head_steps(OneTool(tool), pair, came) if _falls(tool, step, after)]
 
 
 def order_matters(tool, here, one, other):
@@ -67,15 +65,6 @@ def second_matters(tool, here, came):
     """Whether hearing the mark twice makes another mark than once."""
     once = tool.joined(here, came)
     return tool.joined(once, came) != once
-
-
-def _led(tool, pair, same):
-    mark, known = pair
-    return (tool.led(mark, same), known and tool.keeps(same))
-
-
-def _joined(tool, pair, came):
-    return (tool.joined(pair[0], came[0]), pair[1] or came[1])
 
 
 def _falls(tool, step, after):

@@ -32,7 +32,7 @@ class Frames:
 
 
 class Errand:
-    """What a machine does for a message: the texts that it holds, and how often it runs the row in each."""
+    """What a machine does for a message: the texts that it holds, and the words `run` and `send` for each."""
 
     def __init__(self, stays, late):
         self.stays = stays
@@ -68,19 +68,19 @@ class Teller:
     def prepare(self, errand):
         """The errand is done as far as it can be ahead of the head's own texts."""
         early = errand.stays[:-1] if errand.late else errand.stays
-        for at, (frame, runs) in enumerate(early):
+        for at, (frame, words) in enumerate(early):
             # What is led must be led to a newer text, though its rows may all be the same.
             if at > 0 or frame != self.text:
                 self.edit(frame)
-            self._stay(errand, runs)
+            self._stay(errand, words)
         if not errand.late:
-            self._send(errand)
+            self._end(errand)
 
     def deliver(self, errand):
         """The rest of the errand is done, so that its message is sent."""
         if errand.number is None:
             self._stay(errand, errand.stays[-1][1])
-            self._send(errand)
+            self._end(errand)
 
     def hear(self, errand):
         self.deliver(errand)
@@ -88,30 +88,36 @@ class Teller:
 
     def whole(self):
         rows = [(content, None) for content in self.first]
-        # No fault is met without a message, so there is a machine.
+        # Whatever a story is told of needs a message, so there is a machine.
         return Story(Edition(rows), len(self.held), self.events)
 
-    def _stay(self, errand, runs):
+    def _stay(self, errand, words):
         if errand.machine is None:
             errand.machine = self._blank_machine()
         if self.held[errand.machine] != self.newest:
             self.events.append(f"fetch {errand.machine}")
             self.held[errand.machine] = self.newest
-        for _ in range(runs):
-            self.events.append(f"run {errand.machine} 1")
+        for word in words:
+            if word == "run":
+                self.events.append(f"run {errand.machine} 1")
+            else:
+                self._send(errand.machine)
 
     def _blank_machine(self):
-        """A machine on which the row is blank and not known."""
+        """A machine on which the row is as at the beginning."""
         if self.free:
             return self.free.pop()
         self.held.append(0)
         return len(self.held) - 1
 
-    def _send(self, errand):
-        self.events.append(f"send {errand.machine}")
-        errand.number = self.messages
+    def _send(self, machine):
+        self.events.append(f"send {machine}")
         self.messages += 1
-        if self.clears or all([runs == 0 for _, runs in errand.stays]):
+
+    def _end(self, errand):
+        errand.number = self.messages
+        self._send(errand.machine)
+        if self.clears or all(["run" not in words for _, words in errand.stays]):
             self.free.append(errand.machine)
 
 
@@ -144,13 +150,16 @@ class Plan:
         return self.errands[key]
 
 
-def told_story(tool, came, steps, lying):
-    """The story in which the head goes these steps, and what comes by messages that are not heard lies there."""
+def told_story(clears, came, steps, lying):
+    """The story in which the head goes these steps, and what comes by messages that are not heard lies there.
+
+    `clears` is whether each row begins anew on a machine that has sent; `came` are the ways of what can come.
+    """
     plan = Plan(came)
     for step in steps:
         plan.add_step(step)
     errands = [plan.errand(pair) for pair in lying]
-    teller = Teller(tool.clears)
+    teller = Teller(clears)
     for errand in list(plan.errands.values()):
         teller.prepare(errand)
     for frame, heard in plan.texts:
@@ -163,16 +172,16 @@ def told_story(tool, came, steps, lying):
 
 
 def _stays(frames, steps, last):
-    """The frames that a machine holds, up to the last one, and how often it runs the row in each."""
+    """The frames that a machine holds, up to the last one, and the words for what it does in each."""
     stays = []
-    frame, runs = last, 0
+    frame, words = last, []
     for word, same in reversed(list(steps)):
-        if word == "run":
-            runs += 1
+        if word == "fetch":
+            stays.append((frame, words[::-1]))
+            frame, words = frames.past(frame, same), []
         else:
-            stays.append((frame, runs))
-            frame, runs = frames.past(frame, same), 0
-    stays.append((frame, runs))
+            words.append(word)
+    stays.append((frame, words[::-1]))
     return stays[::-1]
 
 

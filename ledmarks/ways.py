@@ -1,25 +1,18 @@
-"""The cheapest ways to what a row's mark can become, counted in hearings, then in events."""
+"""The cheapest ways to what a row's pair can become, counted in hearings, then in events; a `rule` as in `steps`."""
 
-from ledmarks.steps import arrivals, beginning, head_steps, machine_steps
+from ledmarks.steps import arrivals, head_steps, machine_steps
 
 # How many events a step takes; a fetch needs an edit ahead of it.
-PRICES = {"run": 1, "fetch": 2, "edit": 1}
+PRICES = {"run": 1, "send": 1, "fetch": 2, "edit": 1}
 
 
-def machine_ways(tool):
-    """For each pair of mark and known in a machine's book its cost and its steps."""
-    def steps(pair):
-        return [(step, (0, PRICES[step[0]]), other) for step, other in machine_steps(tool, pair)]
-
-    return _ways(beginning(tool), steps)
-
-
-def came_ways(tool, machines):
+def came_ways(rule):
     """For each pair that can come to the head its cost, the machine's steps, the pattern or None if it is not led."""
+    machines = machine_ways(rule)
     ways = {}
     for pair in machines:
         cost, steps = machines[pair]
-        for same, came in arrivals(tool, pair):
+        for same, came in arrivals(rule, pair):
             # To send is an event; what is to be led needs an edit behind it.
             way = (added(cost, (0, 1 if same is None else 2)), steps, same)
             if came not in ways or way[0] < ways[came][0]:
@@ -27,12 +20,20 @@ def came_ways(tool, machines):
     return ways
 
 
-def head_ways(tool, came):
-    """For each pair in the head's book its cost and its steps."""
+def machine_ways(rule):
+    """For each pair in a machine's book its cost and its steps."""
     def steps(pair):
-        return [(step, price_at_head(step, came), other) for step, other in head_steps(tool, pair, list(came))]
+        return [(step, (0, PRICES[step[0]]), other) for step, other in machine_steps(rule, pair)]
 
-    return _ways(beginning(tool), steps)
+    return _ways(rule.start, steps)
+
+
+def head_ways(rule, came):
+    """For each pair in the head's book its cost and its steps; `came` are the ways of what can come."""
+    def steps(pair):
+        return [(step, price_at_head(step, came), other) for step, other in head_steps(rule, pair, list(came))]
+
+    return _ways(rule.start, steps)
 
 
 def price_at_head(step, came):

@@ -6,7 +6,7 @@ A row of a text is a thing of its own here, which knows the row from which it ca
 import itertools
 
 from ledmarks.editions import Edition
-from ledmarks.rows import Join, Lead, Run
+from ledmarks.rows import Join, Lead, Row, Run
 from ledmarks.stories import Story
 from ledmarks.tools import Tool
 
@@ -262,6 +262,53 @@ def wanted_holds(tool, fault, machines, head):
     return not any(is_met(tool, fault, pair, came, way) for pair in head for way in (False, True))
 
 
+def wanted_happening(tool, wanted):
+    """Which of these faults happen, as a set."""
+    return {fault for fault in wanted if wanted_fewest(tool, fault) is not None}
+
+
+def wanted_parting(p, q):
+    """With how few hearings two tools tell unlike rows; None if they never do."""
+    start = {(p.blank, q.blank)}
+
+    def by_leading(pair):
+        return {(p.led(pair[0], same), q.led(pair[1], same)) for same in EIGHT}
+
+    def by_machines(pair):
+        ran = (p.ran(pair[0]), q.ran(pair[1]))
+        sent = (p.blank if p.clears else pair[0], q.blank if q.clears else pair[1])
+        return {ran, sent} | by_leading(pair)
+
+    def by_hearings(pair):
+        return {(p.joined(pair[0], one), q.joined(pair[1], other)) for one, other in came}
+
+    sent = spread(start, by_machines)
+    came = sent.union(*[by_leading(pair) for pair in sent])
+    reached, ahead, many = spread(start, by_leading), set(), 0
+    while reached != ahead:
+        if any((one in p.told) != (other in q.told) for one, other in reached):
+            return many
+        ahead, many = reached, many + 1
+        reached = spread(reached.union(*[by_hearings(pair) for pair in reached]), by_leading)
+    return None
+
+
+def wanted_twins(tool):
+    """What `twins` should give: pairs of marks are taken to be one, until something shows that they are not."""
+    def shown(one, other):
+        ways = [tool.ran, *[lambda mark, same=same: tool.led(mark, same) for same in EIGHT],
+                *[lambda mark, came=came: tool.joined(mark, came) for came in tool.marks],
+                *[lambda mark, here=here: tool.joined(here, mark) for here in tool.marks]]
+        return any((way(one), way(other)) not in pairs for way in ways)
+
+    pairs = {(one, other) for one, other in itertools.product(tool.marks, repeat=2)
+             if (one in tool.told) == (other in tool.told)}
+    while any(shown(*pair) for pair in pairs):
+        pairs = {pair for pair in pairs if not shown(*pair)}
+    parts = [tuple(other for other in tool.marks if (mark, other) in pairs) for mark in tool.marks]
+    return tuple(part for at, part in enumerate(parts) if part not in parts[:at])
+
+
 def some_tool(dice, marks=3, rows=8, anys=0.3):
     """Any tool, by a thing that gives random numbers."""
     names = ["none", "run", "old", "b", "c"][:marks]
@@ -285,6 +332,61 @@ def some_tool(dice, marks=3, rows=8, anys=0.3):
     told = [name for name in names[1:] if dice.random() < 0.7]
     parts = ["own", *[part for part in ("above", "below") if dice.random() < 0.4]]
     return Tool(names, told, parts, dice.random() < 0.5, made)
+
+
+def full_tool(dice, marks=4, share=0.3):
+    """Any tool of rows that fit one mark or two each, so that much is told apart; it has any number of rows."""
+    names = ["none", "a", "b", "c", "d"][:marks]
+    rows = [Run(name, dice.choice(names)) for name in names if dice.random() < 0.8]
+    for name in names:
+        rows += [Join(name, came, dice.choice(names)) for came in names if dice.random() < share]
+    for name, same in itertools.product(names[1:], EIGHT):
+        if dice.random() < share:
+            tests = [("" if like else "not ") + part for part, like in zip(("above", "own", "below"), same)]
+            rows.append(Lead(tests, name, dice.choice(names)))
+    told = names[1:][-1:] if dice.random() < 0.7 else names[1:]
+    return Tool(names, told, ["own"], dice.random() < 0.5, rows)
+
+
+def split_tool(dice, tool):
+    """The tool with two marks in the place of its last one, which are one."""
+    last, more = tool.marks[-1], "vwxyz"[len(tool.marks) - 1]
+
+    def both(words):
+        """The words with each choice of the two marks for the last one."""
+        return itertools.product(*[(last, more) if word == last else (word,) for word in words])
+
+    rows = []
+    for row in tool.rows:
+        then = dice.choice([last, more]) if row.then == last else row.then
+        if isinstance(row, Join):
+            rows += [Join(here, came, then) for here, came in both([row.here, row.came])]
+        elif isinstance(row, Run):
+            rows += [Run(old, then) for old, in both([row.old])]
+        else:
+            rows += [Lead(row.tests, old, then) for old, in both([row.old])]
+    told = [*tool.told, more] if last in tool.told else tool.told
+    return Tool([*tool.marks, more], told, tool.parts, tool.clears, rows)
+
+
+def another_tool(dice, tool):
+    """A tool that is perhaps alike: rows in another order, left out, or with another mark; it clears or not."""
+    rows = list(tool.rows)
+    for _ in range(dice.randint(0, 2)):
+        at = dice.randrange(len(rows)) if rows else None
+        way = dice.choice(["exchange", "remove", "rename"])
+        if at is None:
+            continue
+        if way == "exchange":
+            rows.append(rows.pop(at))
+        elif way == "remove":
+            rows.pop(at)
+        else:
+            words = str(rows[at]).split(" ")
+            rows[at] = Row.read(" ".join([*words[:-1], dice.choice(tool.marks)]))
+    clears = tool.clears if dice.random() < 0.6 else not tool.clears
+    told = tool.told if dice.random() < 0.8 else tool.told[:1]
+    return Tool(tool.marks, told, tool.parts, clears, rows)
 
 
 def some_edit(dice, ahead, most=4):

@@ -7,8 +7,9 @@ import pathlib
 import unittest
 
 import ledmarks
-from ledmarks import deciding, editions, errors, papers, rows, runs, stories, tools, words
-from things import ANY, NAMES, NO_NAMES, near, plain, story
+from ledmarks import (comparing, deciding, desk, editions, errors, keeping, live, papers, rows, runs, stories, tools,
+                      words)
+from things import ANY, FAULTS, NAMES, NO_NAMES, OBJECTS, last, near, plain, story, third
 
 ROOT = pathlib.Path(__file__).resolve().parent.parent
 PACKAGE = ROOT / "ledmarks"
@@ -28,6 +29,12 @@ INTERFACE = {
     deciding: {"happens": ["tool", "fault"], "faults": ["tool"], "fewest": ["tool", "fault"],
                "story": ["tool", "fault"], "lists": ["tool"]},
     papers: {"paper": ["tool", "fault"], "paper_holds": ["tool", "fault", "value"]},
+    comparing: {"alike": ["p", "q"], "parting": ["p", "q"], "twins": ["tool"], "merged": ["tool"]},
+    keeping: {"least_parts": ["tool", "wanted"], "needless": ["tool", "wanted"], "repairs": ["tool", "wanted"],
+              "swaps": ["tool"]},
+    live: {"Live": ["tool", "first", "machines"], "Live.do": ["event"], "Live.several": ["events"],
+           "Live.change": ["tool"], "Live.undo": [], "Live.trial": [], "Live.within": ["work"]},
+    desk: {"Desk": [], "Desk.say": ["command"]},
 }
 OWN = {
     rows.Row: ["read", "__eq__", "__str__"],
@@ -35,6 +42,8 @@ OWN = {
                  "__str__"],
     editions.Edition: ["frame", "read", "__len__", "__getitem__", "__eq__", "__str__"],
     stories.Story: ["editions", "upto", "more", "elder", "read", "__len__", "__getitem__", "__eq__", "__str__"],
+    live.Live: ["story", "played", "tool", "do", "several", "change", "undo", "trial", "within", "__len__"],
+    desk.Desk: ["say"],
 }
 
 
@@ -82,8 +91,11 @@ class TestCalls(unittest.TestCase):
         for owner, names in OWN.items():
             for name in names:
                 self.assertIn(name, vars(owner), owner)
-        for owner in OWN:
-            self.assertIsInstance(vars(owner)["read"], classmethod)
+            if "read" in names:
+                self.assertIsInstance(vars(owner)["read"], classmethod)
+        for owner, names in ((stories.Story, ["editions"]), (live.Live, ["story", "played", "tool"])):
+            for name in names:
+                self.assertIsInstance(vars(owner)[name], property)
 
     def test_things_are_defined_in_their_module(self):
         for module, named in INTERFACE.items():
@@ -121,6 +133,70 @@ class TestCalls(unittest.TestCase):
             one.without(9)
         again = [one.ran("none"), one.led("run", (True, True, True)), one.heeding([]), one.without(0), str(one)]
         self.assertEqual(first, again)
+
+    def test_lists_and_tuples(self):
+        """The same is told of both, and neither is changed."""
+        def made(kind):
+            wanted = kind(["missed", "false"])
+            one = tools.Tool(kind(["none", "run"]), kind(["run"]), kind(["own"]), True,
+                             kind([rows.Run("any", "run"), rows.Lead(kind(["own"]), "run", "run")]))
+            first = editions.Edition(kind([("a", None), ("b", None)]))
+            events = kind(["run 0 0", "send 0"])
+            thing = live.Live(one, first)
+            thing.several(events)
+            return (str(one), str(one.heeding(kind(["above"]))), keeping.least_parts(one, wanted),
+                    keeping.needless(one, wanted), keeping.repairs(one, wanted), str(thing.story),
+                    str(stories.Story(first, 1, events).more(kind(["hear 0"])))), (wanted, events)
+
+        (of_lists, lists), (of_tuples, tuples) = made(list), made(tuple)
+        self.assertEqual(of_lists, of_tuples)
+        self.assertEqual((lists, tuples), ((["missed", "false"], ["run 0 0", "send 0"]),
+                                           (("missed", "false"), ("run 0 0", "send 0"))))
+
+    def test_nothing_is_iterable(self):
+        thing = live.Live(plain(), editions.Edition.read("a"))
+        for one in [*OBJECTS, thing, thing.trial(), thing.story, thing.played, desk.Desk(), errors.Refused(1),
+                    errors.NoEvent(0)]:
+            for call in (iter, list, tuple, set, enumerate, lambda it: [*it], lambda it: None in it):
+                with self.assertRaises(TypeError):
+                    call(one)
+
+    def test_other_objects_are_not_changed(self):
+        one, other = plain(), last()
+        texts = (str(one), str(other))
+        wanted = ["false", "order"]
+        thing = live.Live(one, editions.Edition.read("a b"))
+        table = desk.Desk()
+        table.say("tool " + str(other).replace("\n", " ; "))
+        for _ in range(2):
+            self.assertEqual([comparing.alike(one, other), comparing.twins(one), comparing.merged(one) == one],
+                             [False, (("none",), ("run",)), True])
+            self.assertEqual(comparing.parting(one, other), comparing.parting(plain(), last()))
+            self.assertEqual([call(other, wanted) for call in (keeping.least_parts, keeping.needless, keeping.repairs)],
+                             [None, (1,), (0, 2)])
+            self.assertEqual((keeping.swaps(one), deciding.faults(other)), ((0, 1), ("fallen", "missed", "order")))
+            thing.within(lambda it: it.several(["send 0", "hear 0"]))
+            self.assertEqual((len(thing), len(thing.story), table.say("faults")), (0, 0, "fallen missed order"))
+        self.assertEqual((str(one), str(other), wanted), (*texts, ["false", "order"]))
+        self.assertIs(thing.tool, one)
+
+    def test_what_the_newer_modules_return_may_be_passed_on(self):
+        parted = comparing.parting(plain(), last())
+        self.assertNotEqual(runs.play(plain(), parted).told, runs.play(last(), parted).told)
+        self.assertEqual(runs.lacking(last(), parted.more(["edit a b:1", "hear 0"]), 0), (0,))
+        self.assertEqual(keeping.swaps(comparing.merged(third())), (0, 1))
+        self.assertEqual(plain().heeding(keeping.least_parts(plain(), ["false"])), plain().heeding([]))
+        thing = live.Live(comparing.merged(third()), parted.first, parted.machines)
+        self.assertEqual(thing.several(parted.events)[-1], runs.play(plain(), parted).told)
+        self.assertEqual(deciding.faults(thing.tool), ())
+        for fault in FAULTS:
+            found = papers.paper(thing.tool, fault)
+            for value in (found, tuple(part[::-1] for part in found), tuple(part * 40 for part in found)):
+                self.assertIs(papers.paper_holds(thing.tool, fault, value), True)
+            renamed = tuple(tuple((mark.replace("run", "x"), known) for mark, known in part) for part in found)
+            for value in (list(found), tuple(list(part) for part in found), tuple(part[1:] for part in found),
+                          tuple(tuple(list(pair) for pair in part) for part in found), renamed):
+                self.assertIs(papers.paper_holds(thing.tool, fault, value), False)
 
     def test_texts_as_long_as_the_limit(self):
         lines = ["marks aaaa bbbb cccc dddd eeee", "told bbbb cccc dddd eeee", "parts above below own", "send clear"]

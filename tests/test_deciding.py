@@ -9,7 +9,7 @@ from ledmarks.runs import play
 from ledmarks.stories import Story
 from ledmarks.tools import Tool
 from models import World, some_story, some_tool, wanted_fewest, wanted_lists
-from things import ANY, FAULTS, LINES, last, near, plain
+from things import ANY, FAULTS, LINES, hearings, last, near, plain
 
 # Four hearings make a mark that is told; the fifth one takes it away.
 CLIMB = ["marks none a b c d", "told d", "parts own", "send keep", "run none to a", "lead own a to a",
@@ -18,10 +18,6 @@ CLIMB = ["marks none a b c d", "told d", "parts own", "send keep", "run none to 
 
 def tool(*rows, told="run old", parts="own", send="keep"):
     return Tool.read("\n".join(["marks none run old", f"told {told}".strip(), f"parts {parts}", f"send {send}", *rows]))
-
-
-def hearings(one):
-    return len([event for event in one.events if event.startswith("hear ")])
 
 
 class DecidingCase(unittest.TestCase):

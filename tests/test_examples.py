@@ -1,7 +1,10 @@
-"""The examples of the document, as far as the modules that there are can do them."""
+"""The examples of the document, as they stand there."""
 
 import doctest
+import pathlib
 import unittest
+
+DOCUMENT = pathlib.Path(__file__).resolve().parent.parent.parent / "shared" / "DOC.md"
 
 EXAMPLES = r'''
 Section 1:
@@ -42,14 +45,44 @@ Behind [17]:
     >>> from ledmarks.papers import paper, paper_holds
     >>> paper_holds(plain, "false", lists(plain)), paper_holds(near, "false", lists(near)), paper(near, "false"), paper_holds(plain, "false", ((), ()))
     (True, False, None, False)
+
+Behind [18]:
+
+    >>> from ledmarks.keeping import least_parts, needless
+    >>> least_parts(plain, ["fallen", "false"]), least_parts(near, ["false"]), least_parts(near, ["fallen", "false"]), needless(plain, ["false"])
+    (('own',), (), None, (0, 1, 2))
+
+Behind [19]:
+
+    >>> from ledmarks.comparing import alike, merged, parting, twins
+    >>> third = Tool.read("marks none run old\ntold run old\nparts own\nsend clear\nrun any to run\nlead own any to old\njoin none any to came")
+    >>> twins(third), len(merged(third).marks), alike(third, plain), alike(plain, last)
+    ((('none',), ('run', 'old')), 2, True, False)
+
+Behind [22]:
+
+    >>> from ledmarks.desk import Desk
+    >>> desk = Desk()
+    >>> desk.say("tool " + " ; ".join(lines)), desk.say("begin 1 a b"), desk.say("do run 0 1"), desk.say("do send 0"), desk.say("do hear 0"), desk.say("mark 1")
+    ('3', '2', '-', '-', '1', 'run known')
+    >>> desk.say("do edit a:0 x:1"), desk.say("faults"), desk.say("fewest false"), desk.say("undo"), desk.say("mark 0")
+    ('-', 'never', 'never', 'undone', 'none')
 '''
+
+
+def examples(text):
+    return [(example.source, example.want) for example in doctest.DocTestParser().get_examples(text)]
 
 
 class TestExamples(unittest.TestCase):
     def test_examples(self):
         test = doctest.DocTestParser().get_doctest(EXAMPLES, {}, "DOC.md", None, 0)
         told = doctest.DocTestRunner().run(test)
-        self.assertEqual((told.failed, told.attempted), (0, 18))
+        self.assertEqual((told.failed, told.attempted), (0, 27))
+
+    @unittest.skipUnless(DOCUMENT.exists(), "the document is not here")
+    def test_these_are_the_examples_of_the_document(self):
+        self.assertEqual(examples(EXAMPLES), examples(DOCUMENT.read_text()))
 
 
 if __name__ == "__main__":
